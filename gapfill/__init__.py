@@ -1,0 +1,1 @@
+"""Gapfill: numbered letters between two sides, by lines that lose, double and turn them."""

@@ -1,0 +1,72 @@
+"""Those rules of the program's language that can be counted off: files, imports, sizes, signs."""
+
+import ast
+import pathlib
+import unittest
+
+PACKAGE = pathlib.Path(__file__).parent.parent / "gapfill"
+LIBRARY = ("__future__", "heapq", "math", "itertools", "collections")
+BARRED = (
+    ast.AsyncFunctionDef, ast.AsyncFor, ast.AsyncWith, ast.Await, ast.Global, ast.Import, ast.Div,
+)
+BUILTINS = (
+    "print", "input", "open", "eval", "exec", "compile", "globals", "locals", "vars", "dir", "id", "hash",
+    "object", "super", "type", "callable", "filter", "float", "complex", "format", "round", "slice", "chr",
+    "memoryview", "bytearray", "frozenset", "delattr", "bin", "oct", "hex", "ascii", "issubclass",
+)
+
+
+def files():
+    """(name, text, tree) of each file of the package."""
+    for path in sorted(PACKAGE.rglob("*.py")):
+        text = path.read_text(encoding="utf-8")
+        yield path.name, text, ast.parse(text)
+
+
+class Language(unittest.TestCase):
+    def test_the_folder_holds_python_files_alone(self):
+        there = [path for path in PACKAGE.rglob("*") if path.name != "__pycache__" and path.suffix != ".pyc"]
+        self.assertTrue((PACKAGE / "__init__.py").is_file())
+        for path in there:
+            self.assertTrue(path.is_dir() or path.suffix == ".py", path)
+
+    def test_signs_and_lines(self):
+        for name, text, _ in files():
+            self.assertEqual({sign for sign in text if sign != "\n" and not " " <= sign <= "~"}, set(), name)
+            lines = text.splitlines()
+            self.assertLess(len(lines), 400, name)
+            self.assertLessEqual(max(len(line) for line in lines), 120, name)
+
+    def test_functions_are_short(self):
+        for name, _, tree in files():
+            for node in ast.walk(tree):
+                if isinstance(node, ast.FunctionDef):
+                    self.assertLessEqual(node.end_lineno - node.lineno + 1, 40, (name, node.name))
+
+    def test_imports_come_from_the_package(self):
+        for name, _, tree in files():
+            for node in ast.walk(tree):
+                if isinstance(node, ast.ImportFrom):
+                    self.assertEqual(node.level, 0, name)
+                    inside = node.module.startswith("gapfill.")
+                    self.assertTrue(inside or node.module in LIBRARY, (name, node.module))
+                    self.assertNotIn("*", [alias.name for alias in node.names], name)
+
+    def test_statements_and_numbers(self):
+        for name, _, tree in files():
+            for node in ast.walk(tree):
+                self.assertNotIsInstance(node, BARRED, name)
+                if isinstance(node, ast.Constant):
+                    self.assertNotIsInstance(node.value, (float, complex), name)
+
+    def test_names_of_builtins_stay_theirs(self):
+        for name, _, tree in files():
+            asked = [node.func for node in ast.walk(tree) if isinstance(node, ast.Call)]
+            for node in ast.walk(tree):
+                if isinstance(node, ast.Name) and node.id in BUILTINS:
+                    allowed = node.id in ("type", "super") and node in asked
+                    self.assertTrue(allowed, (name, node.lineno, node.id))
+
+
+if __name__ == "__main__":
+    unittest.main()
