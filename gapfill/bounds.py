@@ -8,6 +8,11 @@ WIDE = 8
 # The order counts: a sign's place in it is what the sign adds to a letter's sum.
 SIGNS = "abcdefghijklmnopqrstuvwxyz0123456789 =|,"
 
+LEAST_PAUSE = 3
+MOST_PAUSE = 60
+LEAST_WIDE = 1
+MOST_WIDE = 99
+
 SIDES = ("a", "b")
 TEXT_SIGNS = "abcdefghijklmnopqrstuvwxyz0123456789 "
 MOST_SIGNS = 20

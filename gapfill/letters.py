@@ -5,7 +5,7 @@ in, a True for 1 or an object with a will of its own, is told to be none, withou
 """
 
 from gapfill.bounds import MOST_NUMBER, MOST_ROUND, MOST_SIGNS, SIDES, TEXT_SIGNS
-from gapfill.errors import NoLetter
+from gapfill.errors import NoLetter, NoSide
 
 
 def is_whole(thing, low, high):
@@ -28,6 +28,14 @@ def is_text(thing):
     if type(thing) != str or not 1 <= len(thing) <= MOST_SIGNS:
         return False
     return all([sign in TEXT_SIGNS for sign in thing])
+
+
+def has_word(thing):
+    """Whether it is a tuple with some word first."""
+    if type(thing) != tuple or len(thing) == 0:
+        return False
+    word = thing[0]
+    return type(word) == str
 
 
 def _is_word(parts):
@@ -83,12 +91,9 @@ BODIES = {
 
 def is_body(thing):
     """Whether it is a BODY: of a fill, one behind some number at all."""
-    if type(thing) != tuple or len(thing) == 0:
+    if not has_word(thing) or thing[0] not in BODIES:
         return False
-    word = thing[0]
-    if type(word) != str or word not in BODIES:
-        return False
-    fits = BODIES[word]
+    fits = BODIES[thing[0]]
     return fits(thing[1:])
 
 
@@ -122,6 +127,12 @@ def need_letter(thing):
     """Refuse what is no letter."""
     if not is_letter(thing):
         raise NoLetter("this is no letter")
+
+
+def need_side(thing):
+    """Refuse what is no SIDE."""
+    if not is_side(thing):
+        raise NoSide("this is no name of a side")
 
 
 def is_own(letter):

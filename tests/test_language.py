@@ -59,6 +59,36 @@ class Language(unittest.TestCase):
                 if isinstance(node, ast.Constant):
                     self.assertNotIsInstance(node.value, (float, complex), name)
 
+    def test_is_stands_beside_none_and_truths_alone(self):
+        for name, _, tree in files():
+            for node in ast.walk(tree):
+                if isinstance(node, ast.Compare) and isinstance(node.ops[0], (ast.Is, ast.IsNot)):
+                    beside = node.comparators[0]
+                    self.assertTrue(isinstance(beside, ast.Constant) and beside.value in (None, True, False), (name, node.lineno))
+
+    def test_lists_instead_of_generator_expressions(self):
+        # A class has __eq__, so any, all, sum and their kin take a list.
+        for name, _, tree in files():
+            for node in ast.walk(tree):
+                self.assertNotIsInstance(node, (ast.GeneratorExp, ast.Yield, ast.YieldFrom), name)
+
+    def test_errors_of_python_are_not_caught(self):
+        for name, _, tree in files():
+            for node in ast.walk(tree):
+                if isinstance(node, ast.ExceptHandler):
+                    self.assertIsInstance(node.type, ast.Name, name)
+                    self.assertTrue(node.type.id.startswith("No"), (name, node.type.id))
+
+    def test_no_two_files_import_from_each_other(self):
+        imports = {}
+        for name, _, tree in files():
+            froms = [node.module for node in ast.walk(tree) if isinstance(node, ast.ImportFrom)]
+            imports[name] = [module.partition(".")[2] + ".py" for module in froms if module.startswith("gapfill.")]
+        while imports:
+            free = [name for name, needed in imports.items() if not [other for other in needed if other in imports]]
+            self.assertNotEqual(free, [], imports)
+            imports = {name: needed for name, needed in imports.items() if name not in free}
+
     def test_names_of_builtins_stay_theirs(self):
         for name, _, tree in files():
             asked = [node.func for node in ast.walk(tree) if isinstance(node, ast.Call)]

@@ -5,6 +5,7 @@ import unittest
 
 from gapfill.errors import GapError, NoLetter
 from gapfill.letters import is_letter, is_own, reach
+from tests.things import put_otherwise, strangers
 
 # (AGAIN, BODY) -> reach of number 7, and whether it is an own one; hello and bye have number 0.
 NUMBERED = (
@@ -30,91 +31,6 @@ def samples():
             yield (side, 7, again, body), beyond, own
         for again, body, beyond, own in UNNUMBERED:
             yield (side, 0, again, body), beyond, own
-
-
-class Hostile:
-    """An object that refuses every question put to it."""
-
-    def __eq__(self, other):
-        raise RuntimeError("asked for likeness")
-
-    def __hash__(self):
-        raise RuntimeError("asked for a hash")
-
-    def __len__(self):
-        raise RuntimeError("asked for its length")
-
-    def __bool__(self):
-        raise RuntimeError("asked for its truth")
-
-    def __iter__(self):
-        raise RuntimeError("asked for its parts")
-
-    def __getitem__(self, at):
-        raise RuntimeError("asked for a part")
-
-    def __lt__(self, other):
-        raise RuntimeError("asked for order")
-
-    __le__ = __gt__ = __ge__ = __lt__
-
-
-class Liar(Hostile):
-    """An object that says it is a tuple, and is none."""
-
-    __class__ = tuple
-
-
-class Yes:
-    """An object that is like everything."""
-
-    def __eq__(self, other):
-        return True
-
-    def __hash__(self):
-        return hash("a")
-
-
-def ten_deep():
-    thing = ()
-    for _ in range(10):
-        thing = (thing,)
-    return thing
-
-
-def strangers():
-    """Things that stand nowhere in a letter, each new."""
-    return (
-        None, -1, 10 ** 40, -(10 ** 40), "", "A", "True", "a\n", "|", b"", b"a", b"word",
-        [], [7], ["a"], ["word", "hi"], {}, {"a": 1}, {7: 7}, set(), {"a"}, frozenset(), (), (7,),
-        ("a",), (None,), ("word",), (("word", "hi"),), range(7), range(4), len, int, tuple, object(),
-        Hostile(), Liar(), Yes(), ten_deep(),
-    )
-
-
-def in_place_of(part):
-    """Things that can't stand where this part of a letter stands."""
-    for thing in strangers():
-        yield thing
-    if isinstance(part, bool):
-        yield from (0, 1, 7, "yes", "no")
-    elif isinstance(part, int):
-        yield from (True, False, str(part), "a", (part,), [part], 10001)
-    elif isinstance(part, str):
-        yield from (True, False, 0, 1, 7, part.upper(), part + "_", part.encode(), list(part), (part,))
-    else:
-        yield from (True, False, 0, 1, "word", list(part), dict(enumerate(part)), part + (7,), part + part)
-        yield from (part[:at] + part[at + 1:] for at in range(len(part)))
-        yield from (part + ("hi",), part + (None,), (0,) + part, (part,))
-
-
-def put_otherwise(thing):
-    """All that is this letter with one thing in it, or the whole, put otherwise."""
-    yield from in_place_of(thing)
-    if isinstance(thing, tuple):
-        for at, part in enumerate(thing):
-            for other in put_otherwise(part):
-                yield thing[:at] + (other,) + thing[at + 1:]
 
 
 def numbered(number, body, again=False, side="a"):
