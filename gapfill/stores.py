@@ -3,6 +3,7 @@
 from gapfill.bounds import MOST_NUMBER
 from gapfill.errors import NoCount, NoEntry, NoStore
 from gapfill.letters import has_word, is_text, is_truth, is_whole
+from gapfill.parts import show_parts
 
 
 def _is_tell(parts):
@@ -176,6 +177,9 @@ class Store:
 
     def __repr__(self):
         return f"Store({len(self._entries)})"
+
+    def __str__(self):
+        return "\n".join([show_parts(entry) for entry in self._entries])
 
 
 def need_store(thing):

@@ -1,4 +1,4 @@
-"""Point 6: stores, entry by entry, together, cut, and alike."""
+"""Points 6 and 7: stores, entry by entry, together, cut, alike, and as texts."""
 
 import unittest
 
@@ -304,6 +304,54 @@ class Alike(StoreCase):
         self.assertEqual(other.entries(), ALL)
 
 
+class Text(StoreCase):
+    """The first half of point 7; how a text is read again stands in test_storetexts."""
+
+    def test_a_row_for_each_entry(self):
+        rows = (
+            "tell,one", "tell,two", "tell,three", "word", "own", "word", "skip,9", "heard,hey,no", "got,5", "lost",
+            "heard,ho,yes", "round,6", "own", "word", "got,4", "lost", "heard,ha 1,no",
+        )
+        store = Store()
+        for at, entry in enumerate(ALL):
+            store.put(entry)
+            self.assertEqual(str(store), "\n".join(rows[:at + 1]))
+            self.assertEqual(f"{store}", str(store))
+            self.assertEqual(repr(store), f"Store({at + 1})")
+
+    def test_without_entries(self):
+        self.assertEqual(str(Store()), "")
+        self.assertEqual(repr(Store()), "Store(0)")
+
+    def test_texts_that_look_like_other_parts(self):
+        self.assertEqual(str(stored(("tell", "yes"), ("tell", "7"), ("tell", " "), ("tell", " a  b "), ("heard", "no", True))),
+                         "tell,yes\ntell,7\ntell, \ntell, a  b \nheard,no,yes")
+
+    def test_the_greatest_numbers(self):
+        self.assertEqual(str(stored(("skip", 10000), ("got", 10000), ("round", 10000))), "skip,10000\ngot,10000\nround,10000")
+
+    def test_behind_a_cut(self):
+        for many, text in ((0, "own\ngot,3\nround,3\nown\ngot,9\ntell,hi"), (1, "own\ngot,3\nround,3\nown\ngot,9\nlost"),
+                           (2, "own\ngot,3\nround,3\nown\nlost"), (3, "own\ngot,3\nround,3\nlost")):
+            store = stored(("own",), ("got", 3), ("round", 3), ("own",), ("got", 9), ("tell", "hi"))
+            store.cut(many)
+            self.assertEqual(str(store), text)
+            refused(self, NoCount, store.cut, 4)
+            self.assertEqual(str(store), text)
+        store = stored(("own",), ("own",))
+        store.cut(2)
+        self.assertEqual(str(store), "lost")
+
+    def test_behind_refusals_and_tells_it_is_as_it_was(self):
+        store = stored(("tell", "a"))
+        refused(self, NoEntry, store.put, ("word", 1))
+        refused(self, NoEntry, store.put_all, (("own",), ("got", 1)))
+        text = str(store)
+        store.put(("own",))
+        self.assertEqual(text, "tell,a")
+        self.assertEqual(store.entries(), (("tell", "a"), ("own",)))
+
+
 class AsTold(StoreCase):
     def test_what_was_told_stays(self):
         store = stored(("tell", "one"), ("tell", "two"), ("word",), ("heard", "hi", False))
@@ -334,7 +382,7 @@ class AsTold(StoreCase):
         self.assertEqual(things, [["tell", "hi"], ["own"]])
 
     def test_methods_stand_in_the_class_itself(self):
-        for name in NUMBERS + ("put", "put_all", "cut", "entries", "__len__", "__eq__", "__repr__"):
+        for name in NUMBERS + ("put", "put_all", "cut", "entries", "__len__", "__eq__", "__repr__", "__str__"):
             self.assertIn(name, vars(Store))
         self.assertEqual(Store.__module__, "gapfill.stores")
 
