@@ -89,7 +89,8 @@ class NoPlace(PlaceError):
     """No letter under way has this place; `at` is the place."""
 
     def __init__(self, at=None):
-        super().__init__(f"no letter at place {at}")
+        # The place isn't shown: Python refuses to write a number of thousands of figures.
+        super().__init__("no letter under way has this place")
         self.at = at
 
 

@@ -34,3 +34,14 @@ def read_part(text):
     if is_number(text) and len(text) <= MOST_FIGURES:
         return int(text)
     return None
+
+
+def read_number(text):
+    """The number that is so written, however many figures it has; None of all else."""
+    if not is_number(text):
+        return None
+    # Figure by figure: Python's own reading refuses thousands of them at once.
+    number = 0
+    for figure in text:
+        number = 10 * number + FIGURES.find(figure)
+    return number

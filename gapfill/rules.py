@@ -11,6 +11,14 @@ def need_make(thing):
         raise NoMake("this is no make of a side")
 
 
+def need_makes(thing):
+    """Refuse what isn't the makes of two sides."""
+    if type(thing) != tuple or len(thing) != 2:
+        raise NoMake("these are no makes of two sides")
+    for make in thing:
+        need_make(make)
+
+
 def need_pause(thing):
     """Refuse what is no pause."""
     if not is_whole(thing, LEAST_PAUSE, MOST_PAUSE):

@@ -45,6 +45,23 @@ class Side:
         self._idle = 0
         self._quiet = 0
 
+    def twin(self):
+        """A side that stands as this one, over an alike store, by itself."""
+        other = Side(self._store.twin(), self._name, make=self._make, pause=self._pause, wide=self._wide)
+        other._state = self._state
+        other._reset = self._reset
+        other._heard = list(self._heard)
+        other._unsaid = list(self._unsaid)
+        other._missing = list(self._missing)
+        other._log = list(self._log)
+        other._trace = list(self._trace)
+        other._seen = self._seen
+        other._kept = dict(self._kept)
+        other._asked = self._asked
+        other._idle = self._idle
+        other._quiet = self._quiet
+        return other
+
     # Its deeds
 
     def tell(self, text):

@@ -107,6 +107,12 @@ class Store:
         for entry in entries:
             self._add(entry)
 
+    def twin(self):
+        """A store alike, by itself."""
+        other = Store()
+        other._begin_again(self._entries)
+        return other
+
     def put(self, entry):
         """Put one entry behind the others."""
         if not is_entry(entry) or not self._can_follow(entry):

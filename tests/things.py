@@ -86,7 +86,7 @@ def put_otherwise(thing):
                 yield thing[:at] + (other,) + thing[at + 1:]
 
 
-def refused(case, refusal, deed, *handed, **named):
+def refused(case, refusal, deed, /, *handed, **named):
     """The refusal of this very class that the deed ends in."""
     try:
         told = deed(*handed, **named)
