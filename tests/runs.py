@@ -2,6 +2,8 @@
 
 import random
 
+from gapfill.sides import Side
+from gapfill.stores import Store
 from gapfill.worlds import World
 from tests.benches import inside
 
@@ -104,3 +106,54 @@ def all_unsaid(world, name):
 
 def of_round(rows, turn):
     return [row[1:3] for row in rows if row[0] == turn]
+
+
+def some_letter(chance, side, sender):
+    """Some letter to a side, most of them near what it awaits and has numbered."""
+    store = side.store()
+    number = max(1, store.next_in() + chance.randrange(-2, 7))
+    kind = chance.random() * (0.2 if side.state() == "waits" else 1)
+    if kind < 0.12:
+        turn = max(0, store.round() + chance.choice((0, 0, 0, 0, 1, -1, 2, -2)))
+        wanted = max(1, store.next_out() + chance.randrange(-3, 3))
+        past = chance.randrange(0, 5)
+        return (sender, 0, False, ("hello", turn, chance.randrange(0, number + 3), wanted, past, chance.random() < 0.5,
+                                   chance.random() < 0.5))
+    if kind < 0.13:
+        return (sender, 0, False, ("bye",))
+    if kind < 0.5:
+        return (sender, number, chance.random() < 0.5, ("word", chance.choice(("hi", "ho", "7"))))
+    if kind < 0.65:
+        return (sender, number, True, ("fill", number + chance.randrange(1, 6)))
+    if kind < 0.8:
+        first = chance.randrange(1, store.next_out() + 2)
+        return (sender, number, False, ("ask", first, chance.choice((0, first, first + 2, first + 9))))
+    return (sender, number, False, (chance.choice(("test", "beat")), chance.randrange(1, 9)))
+
+
+def wild_side(chance, name, steps, **rule):
+    """A side over a new store that was told, given and brought this and that."""
+    side = Side(Store(), name, **rule)
+    for _ in range(steps):
+        step = chance.random()
+        if side.state() == "off" and chance.random() < 0.5:
+            side.greet(reset=chance.random() < 0.5)
+        elif step < 0.08:
+            side.tell(f"word {chance.randrange(9)}")
+        elif step < 0.2:
+            for _ in range(chance.choice((1, 1, 1, 2, 9))):
+                side.beat()
+        elif step < 0.22:
+            chance.choice((side.fall, side.close))()
+        else:
+            side.take(some_letter(chance, side, name if chance.random() < 0.03 else OTHER[name]))
+    return side
+
+
+def wild_sides(many, steps=60):
+    """So many sides of both makes, each with its name and its rule."""
+    for run in range(many):
+        chance = random.Random(run)
+        rule = {"make": MAKES[run % 2], "pause": chance.choice((3, 4, 5, 8)), "wide": chance.choice((1, 2, 5, 8))}
+        name = chance.choice("ab")
+        yield wild_side(chance, name, chance.randrange(1, steps), **rule), name, rule

@@ -73,7 +73,8 @@ class Parted(unittest.TestCase):
             self.part((turn, number), WORDS[:at] + ((turn, number, "x"),) + WORDS[at + 1:], told(*WORDS))
 
     def test_a_row_too_many(self):
-        for row in ((0, 2, "x"), (0, 2, "one"), (0, 9, "x"), (1, 1, "one"), (2, 2, "four"), (5, 8, "six"), (5, 10, "x"), (9, 1, "x")):
+        for row in ((0, 2, "x"), (0, 2, "one"), (0, 9, "x"), (1, 1, "one"), (2, 2, "four"), (5, 8, "six"), (5, 10, "x"),
+                    (9, 1, "x")):
             rows = tuple(sorted(WORDS + (row,)))
             self.part(row[:2], WORDS, told(*rows))
             self.part(row[:2], (), told(row))
@@ -110,7 +111,8 @@ class Parted(unittest.TestCase):
                     if chance.random() < 0.6:
                         words.append((turn, number, chance.choice("ab")))
                     if chance.random() < 0.4 + 0.3 * (chance.random() < 0.5):
-                        near = words[-1] if words and words[-1][:2] == (turn, number) and chance.random() < 0.9 else (turn, number, "a")
+                        near = words[-1] if words and words[-1][:2] == (turn, number) and chance.random() < 0.9 else (turn,
+                                                                                                                      number, "a")
                         heard.append(near + (chance.random() < 0.5,))
             place = by_hand(words, heard)
             places[place] = places.get(place, 0) + 1
@@ -145,7 +147,8 @@ class Refused(unittest.TestCase):
         self.assertEqual(repr(refused(self, NoRows, parted, heard=heard, words=words).at), repr(at))
 
     def test_no_tuple(self):
-        for thing in [thing for thing in strangers() if type(thing) is not tuple] + [list(WORDS), dict(enumerate(WORDS)), iter(WORDS), "one", 7, True]:
+        for thing in [thing for thing in strangers() if type(thing) is not tuple] + [list(WORDS), dict(enumerate(WORDS)),
+                                                                                     iter(WORDS), "one", 7, True]:
             self.not_so(None, thing, ())
             self.not_so(None, thing, None)
             self.not_so(None, (), thing)
@@ -173,8 +176,10 @@ class Refused(unittest.TestCase):
             self.not_so(0, (), (thing,))
 
     def test_bounds(self):
-        for row in ((-1, 1, "a"), (1000, 1, "a"), (0, 0, "a"), (0, -1, "a"), (0, 10000, "a"), (0, 1, ""), (0, 1, "a" * 21), (0, 1, "A"), (0, 1, "a,"),
-                    (False, 1, "a"), (0, True, "a"), (True, True, "a"), ("0", 1, "a"), (0, "1", "a"), (0, 1, 1), (0, 1, None), (0, 1, b"a")):
+        for row in ((-1, 1, "a"), (1000, 1, "a"), (0, 0, "a"), (0, -1, "a"), (9, 0, "a"), (9, -1, "a"), (9, 10000, "a"),
+                    (0, 10000, "a"), (0, 1, ""), (0, 1, "a" * 21), (0, 1, "A"), (0, 1, "a,"),
+                    (False, 1, "a"), (0, True, "a"), (True, True, "a"), ("0", 1, "a"), (0, "1", "a"), (0, 1, 1),
+                    (0, 1, None), (0, 1, b"a")):
             self.not_so(0, (row,), ())
             self.not_so(0, (), told(row))
             self.not_so(2, WORDS[:2] + (row,), ())

@@ -133,7 +133,8 @@ class Carried(CarryCase):
         self.same([made.side(name).store().round() for name in "ab"], [1, 1])
 
     def test_many_beats(self):
-        for made in (World(), world(*BOTH_ON, *tells("a", "hi"), ("lose", "a", 0)), world(OPEN_B, *tells("b", "hi"), makes=(WINDOWED, WINDOWED), wide=1)):
+        for made in (World(), world(*BOTH_ON, *tells("a", "hi"), ("lose", "a", 0)),
+                     world(OPEN_B, *tells("b", "hi"), makes=(WINDOWED, WINDOWED), wide=1)):
             self.goes(made, beats=0)
             self.assertIsNot(carried(made, beats=0), made)
             one_by_one = made
@@ -285,7 +286,8 @@ class BeatsDue(CarryCase):
         self.same(due(made), 0)
 
     def test_where_nothing_is_due(self):
-        for deeds in ((), BOTH_WAIT, BOTH_ON, BOTH_ON + (("beat", "a"),) * (3 * PAUSE - 1), BOTH_ON + (("beat", "a"),) * (3 * PAUSE - 2), (OPEN_A,)):
+        for deeds in ((), BOTH_WAIT, BOTH_ON, BOTH_ON + (("beat", "a"),) * (3 * PAUSE - 1),
+                      BOTH_ON + (("beat", "a"),) * (3 * PAUSE - 2), (OPEN_A,)):
             self.within(0, *deeds)
 
     def test_a_side_that_falls_in_its_next_beat(self):
@@ -297,8 +299,10 @@ class BeatsDue(CarryCase):
                 self.within(pause + 7, *BOTH_WAIT, *quiet, *tells("b", "hi"), pause=pause)
         # Whatever is under way to it, and whatever the other one is.
         self.within(PAUSE + 7, OPEN_A, *(("beat", "a"),) * (3 * PAUSE - 1), *tells("b", "hi"))
-        self.within(PAUSE + 7, *BOTH_ON, *(("beat", "a"),) * (3 * PAUSE - 1), *tells("b", "hi"), *(("beat", "b"),) * (3 * PAUSE - 2))
-        self.within(PAUSE + 7, *BOTH_ON, *(("beat", "b"),) * (3 * PAUSE - 1), *tells("b", "hi"), *(("beat", "a"),) * (3 * PAUSE - 2))
+        self.within(PAUSE + 7, *BOTH_ON, *(("beat", "a"),) * (3 * PAUSE - 1), *tells("b", "hi"),
+                    *(("beat", "b"),) * (3 * PAUSE - 2))
+        self.within(PAUSE + 7, *BOTH_ON, *(("beat", "b"),) * (3 * PAUSE - 1), *tells("b", "hi"),
+                    *(("beat", "a"),) * (3 * PAUSE - 2))
 
     def test_quiet_of_a_side_that_is_off_does_not_count(self):
         for many in (3 * PAUSE - 1, 3 * PAUSE - 2):
@@ -388,7 +392,8 @@ class BeatsDue(CarryCase):
                 for idle in range(pause):
                     self.within(pause + 4 - idle, *lost, *(("beat", name),) * idle, pause=pause)
                     # The beats of the other one don't count, but for what it sends.
-                    self.within(pause + 4 - idle, *lost, *(("beat", name),) * idle, *(("beat", OTHER[name]),) * (pause - 1), pause=pause)
+                    self.within(pause + 4 - idle, *lost, *(("beat", name),) * idle, *(("beat", OTHER[name]),) * (pause - 1),
+                                pause=pause)
 
     def test_the_greater_of_both_ways(self):
         lost = tells("a", "one") + (("lose", "a", 0),)
@@ -413,7 +418,8 @@ class BeatsDue(CarryCase):
     def test_in_runs_from_a_line_that_carried(self):
         for run in range(150):
             chance = random.Random(run)
-            made = carried(World(makes=(chance.choice(("plain", WINDOWED)), chance.choice(("plain", WINDOWED))), pause=chance.choice((3, 4, 8))), beats=2)
+            made = carried(World(makes=(chance.choice(("plain", WINDOWED)), chance.choice(("plain", WINDOWED))),
+                                 pause=chance.choice((3, 4, 8))), beats=2)
             for _ in range(4):
                 wild(chance, made, resets=True, steps=6, loss=0.8)
                 self.falls(made)

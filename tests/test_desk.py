@@ -12,7 +12,8 @@ from tests.runs import OTHER, begun, stand, worlds
 from tests.things import refused, strangers
 
 ON = ("open a", "open b", "bring a 0", "bring b 0", "bring a 0", "bring b 0")
-ROWS = ("tell a hi", "open a", "reset a", "close a", "beat a", "bring a 0", "lose a 0", "double a 0", "fall", "crash a", "cut a 0", "carry 0",
+ROWS = ("tell a hi", "open a", "reset a", "close a", "beat a", "bring a 0", "lose a 0", "double a 0", "fall", "crash a",
+        "cut a 0", "carry 0",
         "state a", "due", "beats", "heard a", "way a", "missing a", "unsaid a", "parts")
 HELLO_A = "from=a|number=0|again=no|hello=0,0,1,0,no,no|length=44|sum=747"
 
@@ -61,7 +62,8 @@ class DeskCase(unittest.TestCase):
 
 class Made(DeskCase):
     def test_a_world_of_this_rule(self):
-        for rule in ({}, {"makes": (WINDOWED, PLAIN)}, {"pause": 9}, {"wide": 3}, {"makes": (PLAIN, WINDOWED), "pause": 60, "wide": 99}):
+        for rule in ({}, {"makes": (WINDOWED, PLAIN)}, {"pause": 9}, {"wide": 3},
+                     {"makes": (PLAIN, WINDOWED), "pause": 60, "wide": 99}):
             self.assertEqual(world_of(Desk(**rule)), World(**rule))
         self.assertEqual(world_of(Desk()), World(makes=("plain", "plain"), pause=5, wide=8))
 
@@ -126,7 +128,8 @@ class Deeds(DeskCase):
 
 class Told(DeskCase):
     def test_state(self):
-        for rows, a, b in (((), "off", "off"), (("open a",), "waits", "off"), (("open a", "open b"), "waits", "waits"), (ON, "on", "on")):
+        for rows, a, b in (((), "off", "off"), (("open a",), "waits", "off"), (("open a", "open b"), "waits", "waits"),
+                           (ON, "on", "on")):
             desk = at_work(*rows)
             self.says(desk, "state a", a)
             self.says(desk, "state b", b)
@@ -199,7 +202,8 @@ class Told(DeskCase):
 
     def parting(self, name, *behind):
         """Rows behind which a word of this side has lost its number to a beat, and a later one is heard."""
-        rows = ON + behind + ("tell {0} one", "fall", "cut {0} 2") + ON + ("beat {0}",) * 5 + ("tell {0} two", "bring {0} 0", "bring {0} 0")
+        rows = ON + behind + ("tell {0} one", "fall", "cut {0} 2") + ON + ("beat {0}",) * 5 + ("tell {0} two", "bring {0} 0",
+                                                                                               "bring {0} 0")
         return [row.format(name) for row in rows]
 
     def test_parts_of_books_that_part(self):
@@ -290,7 +294,8 @@ class NoRowAtAll(DeskCase):
             self.no_row(thing)
 
     def test_another_word(self):
-        for row in ("", "A", "Due", "dues", "greet a", "open_a", "word a hi", "tella hi", "take a", "ok", "none", "due,", "due\n", "carry\t1", "close\na",
+        for row in ("", "A", "Due", "dues", "greet a", "open_a", "word a hi", "tella hi", "take a", "ok", "none", "due,",
+                    "due\n", "carry\t1", "close\na",
                     "OPEN a", "round", "say due"):
             self.no_row(row)
 
@@ -315,7 +320,8 @@ class NoRowAtAll(DeskCase):
             self.no_row(row)
 
     def test_numbers_that_are_not_so_written(self):
-        for text in ("00", "01", "007", "-1", "-0", "+1", "1_0", "1.0", "0x1", "a", "one", "1a", "\u0661", "\u00b2", "1,0", "no", "0" * 5000, "0" + "9" * 5000,
+        for text in ("00", "01", "007", "-1", "-0", "+1", "1_0", "1.0", "0x1", "a", "one", "1a", "\u0661", "\u00b2", "1,0",
+                     "no", "0" * 5000, "0" + "9" * 5000,
                      "9" * 5000 + "x", "-" + "9" * 5000):
             for row in ("bring a", "lose a", "double b", "cut a", "carry"):
                 self.no_row(f"{row} {text}")
@@ -330,7 +336,8 @@ class RefusedAsTheWorld(DeskCase):
     def test_no_deed(self):
         desk = at_work(*ON, "tell a hi")
         for name in ("c", "A", "ab", "0", "a\n", "a,"):
-            for row in ("tell {} hi", "open {}", "reset {}", "close {}", "beat {}", "bring {} 0", "lose {} 0", "double {} 0", "crash {}", "cut {} 0"):
+            for row in ("tell {} hi", "open {}", "reset {}", "close {}", "beat {}", "bring {} 0", "lose {} 0", "double {} 0",
+                        "crash {}", "cut {} 0"):
                 self.not_said(NoDeed, desk, row.format(name))
         for text in ("Hi", "a" * 21, "a,b", "hi!", "a\nb", "\u0661"):
             self.not_said(NoDeed, desk, f"tell a {text}")

@@ -9,6 +9,13 @@ LIBRARY = ("__future__", "heapq", "math", "itertools", "collections")
 BARRED = (
     ast.AsyncFunctionDef, ast.AsyncFor, ast.AsyncWith, ast.Await, ast.Global, ast.Import, ast.Div,
 )
+BARRED_NAMES = (
+    "_cold", "_tuplegetter", "_outside", "_record", "_written_out", "_member_names", "register", "mro", "elements", "open",
+    "input", "law", "version_info", "with_traceback", "add_note", "args", "format",
+)
+BARRED_BEGINNINGS = (
+    "_wall", "_pe_", "_dcw_", "_enum_", "_cm_", "_twin_re_", "_lay_", "_law_", "_stub_", "_sre", "_WallAttr",
+)
 BUILTINS = (
     "print", "input", "open", "eval", "exec", "compile", "globals", "locals", "vars", "dir", "id", "hash",
     "object", "super", "type", "callable", "filter", "float", "complex", "format", "round", "slice", "chr",
@@ -96,6 +103,15 @@ class Language(unittest.TestCase):
                 if isinstance(node, ast.Name) and node.id in BUILTINS:
                     allowed = node.id in ("type", "super") and node in asked
                     self.assertTrue(allowed, (name, node.lineno, node.id))
+
+    def test_barred_names(self):
+        for name, _, tree in files():
+            for node in ast.walk(tree):
+                for field in ("id", "attr", "arg", "name"):
+                    word = getattr(node, field, None)
+                    if isinstance(word, str):
+                        self.assertNotIn(word.rstrip("_0123456789"), BARRED_NAMES, (name, word))
+                        self.assertFalse(word.startswith(BARRED_BEGINNINGS), (name, word))
 
 
 if __name__ == "__main__":

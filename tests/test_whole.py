@@ -5,7 +5,12 @@ import unittest
 
 from gapfill.books import parted
 from gapfill.carrying import beats_due, carried, due
+from gapfill.checker import holds
+from gapfill.errors import NoRows
 from gapfill.lettertexts import read_letter, show_letter
+from gapfill.papers import paper_awaits, paper_books, paper_filled, paper_trace
+from gapfill.stores import Store
+from gapfill.storetexts import read_store
 from gapfill.worlds import World
 from tests.runs import MAKES, OTHER, all_unsaid, of_round, wild, worlds
 
@@ -115,6 +120,94 @@ class Whole(unittest.TestCase):
                     many += 1
                 self.assertEqual(side.store().entries(), before)
         self.assertGreater(many, 200)
+
+    def test_the_checker_takes_the_papers_of_the_house(self):
+        kinds = {}
+        for resets, cuts in ((False, False), (True, False), (False, True), (True, True)):
+            for run, world in worlds(RUNS // 2, resets=resets, cuts=cuts):
+                for claim, paper in papers(world):
+                    self.assertIs(holds(claim, paper), True, run)
+                    kinds[claim[0]] = kinds.get(claim[0], 0) + 1
+        self.assertLessEqual({"kept", "breaks", "agree", "filled", "awaits"}, set(kinds))
+        self.assertGreater(min(kinds.values()), 50)
+
+    def test_whatever_the_checker_takes_is_so(self):
+        chance = random.Random(7)
+        taken, left = 0, 0
+        for resets, cuts in ((False, False), (True, True)):
+            for _, world in worlds(RUNS // 2, resets=resets, cuts=cuts):
+                mixed = papers(world)
+                for claim, paper in mixed:
+                    other = chance.choice(mixed)
+                    for made in (swapped(chance, claim, other[0]), bent(chance, claim)):
+                        if holds(made, paper):
+                            self.assertTrue(is_so(made, paper), made)
+                            taken += 1
+                        else:
+                            self.assertFalse(is_so(made, paper), made)
+                            left += 1
+        self.assertGreater(min(taken, left), 200)
+
+    def test_stores_are_read_back(self):
+        for run, world in worlds(RUNS, resets=True, cuts=True):
+            for name in "ab":
+                store = world.side(name).store()
+                self.assertEqual(read_store(str(store)), store, run)
+                self.assertEqual(read_store(str(store)).words(), store.words(), run)
+
+
+def papers(world):
+    """The papers of the house of a world: of its sides, its books and its stores."""
+    found = []
+    for name, make in zip("ab", world._makes):
+        side = world.side(name)
+        store = side.store()
+        found.append(paper_trace(side.trace(), name, make=make, pause=world._pause, wide=world._wide))
+        found.append(paper_awaits(store))
+        found.append(paper_filled(store, name, 1, 0))
+        found.append(paper_filled(store, name, max(1, store.next_out() - 3), 9999))
+        try:
+            found.append(paper_books(world.words(name), world.heard(OTHER[name])))
+        except NoRows:
+            pass
+    return found
+
+
+def swapped(chance, claim, other):
+    """The claim with a part of another one in the same place."""
+    at = chance.randrange(1, min(len(claim), len(other)))
+    return claim[:at] + (other[at],) + claim[at + 1:]
+
+
+def bent(chance, claim):
+    """The claim with a number put otherwise, or a row left out or told twice."""
+    at = chance.randrange(1, len(claim))
+    part = claim[at]
+    if type(part) is int:
+        part += chance.choice((-1, 1))
+    elif type(part) is str:
+        part = OTHER[part]
+    elif part:
+        row = chance.randrange(len(part))
+        part = part[:row] + chance.choice(((), (part[row],) * 2)) + part[row + 1:]
+    return claim[:at] + (part,) + claim[at + 1:]
+
+
+def is_so(claim, paper):
+    """Whether the claim is so, as the house has it."""
+    try:
+        if claim[0] in ("kept", "breaks"):
+            name, make, pause, wide = claim[1]
+            told = paper_trace(claim[2], name, make=make, pause=pause, wide=wide)
+        elif claim[0] in ("agree", "parts"):
+            told = paper_books(claim[1], claim[2])
+        else:
+            store = Store()
+            store.put_all(claim[1])
+            told = paper_awaits(store) if claim[0] == "awaits" else paper_filled(store, *claim[2:])
+    except (ValueError, TypeError):
+        return False
+    return repr(told) == repr((claim, paper))
 
 
 if __name__ == "__main__":

@@ -43,7 +43,8 @@ class WorldCase(unittest.TestCase):
 
 class Made(WorldCase):
     def test_at_first(self):
-        for made in (World(), World(makes=(PLAIN, PLAIN), pause=PAUSE, wide=WIDE), World(wide=1, pause=60, makes=(WINDOWED, PLAIN))):
+        for made in (World(), World(makes=(PLAIN, PLAIN), pause=PAUSE, wide=WIDE),
+                     World(wide=1, pause=60, makes=(WINDOWED, PLAIN))):
             for name in "ab":
                 for tell in (made.under_way, made.words, made.heard):
                     self.same(tell(name), ())
@@ -180,7 +181,8 @@ class Deeds(WorldCase):
             self.same(made.words("a"), ((0, 1, "one"), (0, 2, "two"), (0, 3, "three")))
 
     def test_letters_that_come_go_behind_the_others(self):
-        made = world(*BOTH_ON, ("tell", "b", "yes"), ("tell", "a", "one"), ("tell", "a", "two"), ("bring", "a", 1), ("tell", "b", "no"))
+        made = world(*BOTH_ON, ("tell", "b", "yes"), ("tell", "a", "one"), ("tell", "a", "two"), ("bring", "a", 1),
+                     ("tell", "b", "no"))
         self.way(made, "b", word(1, "yes"), own(2, "ask", 1, 0), word(3, "no"))
         made.do(("bring", "b", 0))
         made.do(("bring", "b", 0))
@@ -274,7 +276,8 @@ class Deeds(WorldCase):
         self.way(made, "a", hello(side="a"))
 
     def test_deeds_told(self):
-        deeds = BOTH_ON + (("tell", "a", "hi"), ("double", "a", 0), BRING_A, ("lose", "a", 0), ("beat", "b"), ("close", "a"), ("fall",),
+        deeds = BOTH_ON + (("tell", "a", "hi"), ("double", "a", 0), BRING_A, ("lose", "a", 0), ("beat", "b"), ("close", "a"),
+                           ("fall",),
                            ("cut", "a", 1), ("crash", "b"), ("open", "b", True))
         made = World()
         for at, deed in enumerate(deeds):
@@ -305,7 +308,8 @@ class Falls(WorldCase):
         self.states(made, "waits", "waits")
 
     def test_where_the_other_waits_and_a_letter_is_under_way_from_itself(self):
-        for behind in ((("close", "b"),), (("close", "b"), ("lose", "b", 0)), (("beat", "b"), ("lose", "b", 0), ("close", "b"), ("lose", "b", 0))):
+        for behind in ((("close", "b"),), (("close", "b"), ("lose", "b", 0)),
+                       (("beat", "b"), ("lose", "b", 0), ("close", "b"), ("lose", "b", 0))):
             made = world(*BOTH_WAIT, *behind)
             self.assertGreater(len(made.under_way("b")), 0)
             made.do(OPEN_B)
@@ -363,12 +367,14 @@ class Falls(WorldCase):
 class NoDeeds(WorldCase):
     def test_things_of_all_kinds(self):
         for made in (World(), world(*BOTH_WAIT), world(*BOTH_ON)):
-            for thing in strangers() + ("fall", ["fall"], ("Fall",), ("falls",), ("greet", "a", False), ("take", "a", bye()), True, OPEN_A + (7,)):
+            for thing in strangers() + ("fall", ["fall"], ("Fall",), ("falls",), ("greet", "a", False), ("take", "a", bye()),
+                                        True, OPEN_A + (7,)):
                 self.not_done(NoDeed, made, thing)
 
     def test_one_thing_put_otherwise(self):
         made = world(*BOTH_ON, ("tell", "a", "hi"))
-        for deed in (("tell", "a", "hi"), ("open", "b", True), ("close", "a"), ("beat", "b"), ("bring", "a", 3), ("lose", "a", 3), ("double", "a", 3),
+        for deed in (("tell", "a", "hi"), ("open", "b", True), ("close", "a"), ("beat", "b"), ("bring", "a", 3),
+                     ("lose", "a", 3), ("double", "a", 3),
                      ("fall",), ("crash", "a"), ("cut", "b", 3)):
             for thing in put_otherwise(deed):
                 # A number of forty figures is a whole one, too.
@@ -378,7 +384,8 @@ class NoDeeds(WorldCase):
 
     def test_sides_texts_and_truths(self):
         for thing in strangers() + ("c", "A", "ab", True, 0, ("a",)):
-            for deed in (("tell", thing, "hi"), ("open", thing, False), ("close", thing), ("beat", thing), ("bring", thing, 0), ("lose", thing, 0),
+            for deed in (("tell", thing, "hi"), ("open", thing, False), ("close", thing), ("beat", thing),
+                         ("bring", thing, 0), ("lose", thing, 0),
                          ("double", thing, 0), ("crash", thing), ("cut", thing, 0)):
                 refused(self, NoDeed, World().do, deed)
         for thing in strangers() + ("Hi", "a" * 21, "a,b", 7, True):
@@ -398,7 +405,8 @@ class NoDeeds(WorldCase):
 
 class Refused(WorldCase):
     def test_no_place(self):
-        for made, many in ((World(), 0), (world(*A_WAITS), 1), (world(*BOTH_ON), 0), (world(*BOTH_ON, ("tell", "a", "hi"), ("tell", "a", "ho")), 2)):
+        for made, many in ((World(), 0), (world(*A_WAITS), 1), (world(*BOTH_ON), 0),
+                           (world(*BOTH_ON, ("tell", "a", "hi"), ("tell", "a", "ho")), 2)):
             for at in (many, many + 1, many + 50, 10 ** 40 - 1):
                 for what in ("bring", "lose", "double"):
                     self.same(self.not_done(NoPlace, made, (what, "a", at)).at, at)
@@ -427,7 +435,8 @@ class Refused(WorldCase):
 
 
 class DoAll(WorldCase):
-    DEEDS = BOTH_ON + (("tell", "a", "hi"), ("tell", "b", "ho"), BRING_A, ("double", "b", 0), BRING_B, ("crash", "a"), ("cut", "a", 1), OPEN_B)
+    DEEDS = BOTH_ON + (("tell", "a", "hi"), ("tell", "b", "ho"), BRING_A, ("double", "b", 0), BRING_B, ("crash", "a"),
+                       ("cut", "a", 1), OPEN_B)
 
     def test_all(self):
         for cut in range(len(self.DEEDS) + 1):
@@ -438,9 +447,11 @@ class DoAll(WorldCase):
             self.assertEqual(made, world(*self.DEEDS))
 
     def test_none_wherever_the_odd_deed_stands(self):
-        odd = ((NoDeed, ("fall", 1)), (NoDeed, None), (NoDeed, ("bring", "a", True)), (NoPlace, ("lose", "a", 9)), (NoCount, ("cut", "a", 99)))
+        odd = ((NoDeed, ("fall", 1)), (NoDeed, None), (NoDeed, ("bring", "a", True)), (NoPlace, ("lose", "a", 9)),
+               (NoCount, ("cut", "a", 99)))
         for begun_with in ((), BOTH_ON, BOTH_ON + (("tell", "b", "yes"), ("beat", "a"))):
-            rest = self.DEEDS if not begun_with else (("tell", "a", "hi"), ("tell", "b", "ho"), BRING_A, ("beat", "b"), ("fall",), ("crash", "a"))
+            rest = self.DEEDS if not begun_with else (("tell", "a", "hi"), ("tell", "b", "ho"), BRING_A, ("beat", "b"),
+                                                      ("fall",), ("crash", "a"))
             made = world(*begun_with)
             before = stand(made)
             for at in range(len(rest) + 1):
@@ -467,7 +478,8 @@ class DoAll(WorldCase):
     def test_no_tuple(self):
         made = world(*BOTH_ON)
         before = stand(made)
-        for thing in [thing for thing in strangers() if type(thing) is not tuple] + [[], [("fall",)], ("fall",), {("fall",): 1}, iter(()), "fall"]:
+        for thing in [thing for thing in strangers() if type(thing) is not tuple] + [[], [("fall",)], ("fall",),
+                                                                                     {("fall",): 1}, iter(()), "fall"]:
             refused(self, NoDeed, made.do_all, thing)
             refused(self, NoDeed, made.do_all, deeds=thing)
         self.same(stand(made), before)
@@ -493,14 +505,16 @@ class Sides(WorldCase):
         made = world(*BOTH_ON, ("tell", "a", "hi"), makes=(WINDOWED, WINDOWED))
         sides = [made.side(name) for name in "ab"]
         shown = [inside(side) for side in sides]
-        made.do_all((BRING_A, ("tell", "a", "ho"), ("tell", "a", "ha"), ("bring", "a", 1), ("beat", "a"), ("fall",), ("cut", "a", 1), ("crash", "b")))
+        made.do_all((BRING_A, ("tell", "a", "ho"), ("tell", "a", "ha"), ("bring", "a", 1), ("beat", "a"), ("fall",),
+                     ("cut", "a", 1), ("crash", "b")))
         self.same([inside(side) for side in sides], shown)
         self.assertIsNot(made.side("a"), made.side("a"))
         self.assertIsNot(made.side("a").store(), made.side("a").store())
 
     def test_as_it_stands(self):
         # The same deeds, done to sides by hand.
-        made = world(*BOTH_ON, ("tell", "a", "hi"), ("tell", "a", "ho"), ("bring", "a", 1), ("beat", "b"), makes=(PLAIN, WINDOWED), pause=7, wide=2)
+        made = world(*BOTH_ON, ("tell", "a", "hi"), ("tell", "a", "ho"), ("bring", "a", 1), ("beat", "b"),
+                     makes=(PLAIN, WINDOWED), pause=7, wide=2)
         side = Side(Store(), "b", make=WINDOWED, pause=7, wide=2)
         side.fall()
         side.greet()
@@ -565,7 +579,8 @@ class WordsAndHeard(WorldCase):
         self.same(made.heard("b"), ((0, 1, "two", False), (0, 1, "two", True)))
 
     def test_whatever_fell_or_crashed(self):
-        made = world(*BOTH_ON, ("tell", "a", "one"), BRING_A, ("crash", "b"), *BOTH_ON, ("tell", "a", "two"), BRING_A, ("crash", "a"), ("crash", "b"),
+        made = world(*BOTH_ON, ("tell", "a", "one"), BRING_A, ("crash", "b"), *BOTH_ON, ("tell", "a", "two"), BRING_A,
+                     ("crash", "a"), ("crash", "b"),
                      *BOTH_ON, ("tell", "a", "three"), BRING_A, ("fall",))
         self.same(made.heard("b"), ((0, 1, "one", False), (0, 2, "two", False), (0, 3, "three", False)))
         self.same(made.words("a"), ((0, 1, "one"), (0, 2, "two"), (0, 3, "three")))
@@ -573,7 +588,8 @@ class WordsAndHeard(WorldCase):
         self.same((made.words("b"), made.heard("a")), ((), ()))
 
     def test_words_of_more_rounds(self):
-        made = world(("tell", "a", "one"), *BOTH_ON, ("tell", "a", "two"), ("fall",), ("tell", "a", "three"), ("open", "a", True), ("open", "b", True),
+        made = world(("tell", "a", "one"), *BOTH_ON, ("tell", "a", "two"), ("fall",), ("tell", "a", "three"),
+                     ("open", "a", True), ("open", "b", True),
                      BRING_A, BRING_B, BRING_B)
         self.same(made.words("a"), ((0, 1, "one"), (0, 2, "two"), (1, 1, "three")))
         self.same(made.side("a").unsaid(), ((0, 1, "one"), (0, 2, "two")))
@@ -601,7 +617,8 @@ class Alike(WorldCase):
         self.assertIs(made == world(*BOTH_ON), False)
         self.assertIs(world(*BOTH_ON) == made, False)
         self.assertIs(made == world(*BOTH_ON, ("tell", "a", "ho")), False)
-        rules = ({}, {"makes": (WINDOWED, PLAIN)}, {"makes": (PLAIN, WINDOWED)}, {"makes": (WINDOWED, WINDOWED)}, {"pause": 6}, {"wide": 9})
+        rules = ({}, {"makes": (WINDOWED, PLAIN)}, {"makes": (PLAIN, WINDOWED)}, {"makes": (WINDOWED, WINDOWED)},
+                 {"pause": 6}, {"wide": 9})
         for at, rule in enumerate(rules):
             for beside, another in enumerate(rules):
                 for deeds in ((), BOTH_ON):
